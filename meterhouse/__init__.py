@@ -1,0 +1,1 @@
+"""Meterhouse: accounts with programs, priced rows, undone calls and papers."""
