@@ -1,5 +1,6 @@
-"""The form of the package: those of the rules L1 to L28 that are seen in a file by itself.
-What is not seen here (L15, L19, L23 and their like) is left to whoever reads the code."""
+"""The form of the package: those of the rules L1 to L28 that are easily seen in a file or in
+all files together. What is not seen here (of L15, L19, L23 and their like) is left to whoever
+reads the code."""
 
 import ast
 import builtins
@@ -37,6 +38,25 @@ ALLOWED_NODES = (
     ast.FormattedValue, ast.Constant, ast.List, ast.Tuple, ast.Dict, ast.Set, ast.Name, ast.operator, ast.unaryop,
     ast.boolop, ast.cmpop, ast.expr_context,
 )
+
+
+METHODS_OF_PYTHON = set(
+    "append clear copy count endswith extend find get index insert isalnum isalpha isdigit islower isspace isupper "
+    "items join keys ljust lower lstrip partition pop remove replace reverse rfind rjust rpartition rsplit rstrip "
+    "setdefault split splitlines startswith strip update upper values zfill bit_length".split()
+)
+
+# What Python's own values have, and what of it an own method or value may be called all the same.
+HAD_BY_PYTHON = set(dir(str) + dir(int) + dir(list) + dir(dict) + dir(set) + dir(bytes) + dir(tuple) + dir(frozenset))
+FREE_FOR_METHODS = METHODS_OF_PYTHON | {"add", "discard"}
+FREE_FOR_VALUES = set("count index title find get join lower upper split strip copy add".split())
+
+WALKED = ("zip", "enumerate", "reversed", "range")
+WALKED_METHODS = ("items", "keys", "values")
+WALKERS = ("list", "tuple", "dict", "sorted", "sum", "any", "all", "enumerate", "zip", "min", "max")
+
+KEYWORDS = {"sorted": ("key", "reverse"), "min": ("key", "default"), "max": ("key", "default"), "sum": ("start",),
+            "enumerate": ("start",), "zip": ("strict",)}
 
 
 def files():
@@ -158,7 +178,7 @@ def faults_of_constant(node):
 
 
 def faults_of_statement(node):
-    if isinstance(node, ast.Assign) and len(node.targets) > 1:
+    if isinstance(node, ast.Assign) and (len(node.targets) > 1 or isinstance(node.targets[0], (ast.Tuple, ast.List))):
         return ["L6 targets"]
     if isinstance(node, (ast.For, ast.While)) and node.orelse:
         return ["L6 else behind a loop"]
@@ -202,7 +222,7 @@ def names_bound(tree):
 
 def faults_of_node(node, own):
     found = [] if isinstance(node, ALLOWED_NODES) else [f"outside the rules: {type(node).__name__}"]
-    found += faults_of_statement(node)
+    found += faults_of_statement(node) + faults_of_keywords(node)
     if isinstance(node, ast.ClassDef):
         found += faults_of_class(node)
     elif isinstance(node, (ast.FunctionDef, ast.Lambda)):
@@ -220,10 +240,112 @@ def faults_of_node(node, own):
     return found
 
 
+def locals_bound(tree):
+    found = [node.arg for node in ast.walk(tree) if isinstance(node, ast.arg)]
+    for node in ast.walk(tree):
+        if isinstance(node, ast.FunctionDef):
+            stored = [part for part in ast.walk(node) if isinstance(part, ast.Name) and isinstance(part.ctx, ast.Store)]
+            found.extend(part.id for part in stored)
+    return found
+
+
+def faults_of_locals(tree):
+    tops = [node.name for node in tree.body if isinstance(node, ast.ClassDef)]
+    for node in tree.body:
+        if isinstance(node, ast.ImportFrom):
+            tops.extend(part.asname or part.name for part in node.names)
+    return ["L15 local like a class or an import"] if set(tops) & set(locals_bound(tree)) else []
+
+
+def faults_of_keywords(node):
+    if not isinstance(node, ast.Call) or not isinstance(node.func, ast.Name):
+        return []
+    if node.func.id in ALLOWED_BUILTINS and any(part.arg not in KEYWORDS.get(node.func.id, ()) for part in node.keywords):
+        return ["L22 keyword"]
+    return []
+
+
+def called(node):
+    if isinstance(node, ast.Call):
+        return node.func.id if isinstance(node.func, ast.Name) else getattr(node.func, "attr", "")
+    return ""
+
+
+def is_walk(node):
+    if isinstance(node, ast.Call) and isinstance(node.func, ast.Attribute):
+        return node.func.attr in WALKED_METHODS
+    return called(node) in WALKED
+
+
+# Every value that is walked on the spot, where rule L23 lets it stand.
+def walked_on_the_spot(tree):
+    found = []
+    for node in ast.walk(tree):
+        if isinstance(node, (ast.For, ast.comprehension)):
+            found.append(node.iter)
+        elif isinstance(node, ast.Call) and isinstance(node.func, ast.Name) and node.func.id in WALKERS and node.args:
+            found.extend(node.args if node.func.id == "zip" else node.args[:1])
+        elif called(node) == "join" and isinstance(node.func, ast.Attribute) and isinstance(node.func.value, ast.Constant):
+            found.extend(node.args)
+    return [id(part) for part in found]
+
+
+def faults_of_walks(tree):
+    let = walked_on_the_spot(tree)
+    return ["L23 kept walk" for node in ast.walk(tree) if is_walk(node) and id(node) not in let]
+
+
+def faults_of_sets(tree):
+    let = []
+    for node in ast.walk(tree):
+        if called(node) in ("sorted", "len") and not node.keywords:
+            let.extend(id(part) for part in node.args)
+        elif isinstance(node, ast.Compare):
+            let.extend(id(part) for part in [node.left] + node.comparators)
+    return ["L24 set" for node in ast.walk(tree)
+            if isinstance(node, ast.Set) or (called(node) in ("set", "frozenset") and id(node) not in let)]
+
+
+def classes_of(trees):
+    return [node for tree in trees for node in ast.walk(tree) if isinstance(node, ast.ClassDef)]
+
+
+def methods_of(trees):
+    return [part.name for node in classes_of(trees) for part in node.body if isinstance(part, ast.FunctionDef)]
+
+
+def values_of(trees):
+    return [node.attr for tree in trees for node in ast.walk(tree)
+            if isinstance(node, ast.Attribute) and isinstance(node.ctx, ast.Store)]
+
+
+def faults_of_methods(trees):
+    found = []
+    methods, values = set(methods_of(trees)) - set(OWN_METHODS), set(values_of(trees))
+    if methods & values:
+        found.append("L18 a method and a value of one name")
+    if methods & HAD_BY_PYTHON - FREE_FOR_METHODS or values & HAD_BY_PYTHON - FREE_FOR_VALUES:
+        found.append("L26 name")
+    for node in classes_of(trees):
+        names = [part.name for part in node.body if isinstance(part, ast.FunctionDef)]
+        if len(set(names)) < len(names):
+            found.append("L18 method twice")
+    for tree in trees:
+        heads = [id(node.func) for node in ast.walk(tree) if isinstance(node, ast.Call)]
+        for node in ast.walk(tree):
+            if isinstance(node, ast.Attribute) and isinstance(node.ctx, ast.Load):
+                if id(node) in heads and node.attr not in methods | METHODS_OF_PYTHON | set(OWN_METHODS):
+                    found.append("L25 method")
+                if id(node) not in heads and node.attr not in values:
+                    found.append("L25 method handed on")
+    return found
+
+
 def faults(text):
     tree = ast.parse(text)
     own = names_bound(tree)
-    found = faults_of_text(text) + faults_of_top(tree)
+    found = faults_of_text(text) + faults_of_top(tree) + faults_of_locals(tree)
+    found += faults_of_walks(tree) + faults_of_sets(tree)
     for name in own:
         found += faults_of_name(name, own)
     for node in ast.walk(tree):
@@ -247,7 +369,17 @@ BAD = (
     "def f(a):\n    return \"%\"\n", "def f(a):\n    return chr(a)\n", "def f(a):\n    yield a\n",
     "def f(a):\n\treturn a\n", "# a type\n", "def f(a):\n    return f\"{a:3}\"\n", "def f(a):\n    a\n",
     "def f(a):\n    for b in a:\n        pass\n    else:\n        pass\n", "def f():\n" + "    a = 1\n" * 40,
-    "def f(a):\n    return a" + " " * 120 + "\n",
+    "def f(a):\n    return a" + " " * 120 + "\n", "def f(a):\n    b, c = a\n",
+    "from meterhouse.words import WIDE\n\n\ndef f(WIDE):\n    return 1\n", "class A:\n    pass\n\n\ndef f():\n    A = 1\n",
+    "def f(a):\n    return int(a, base=2)\n", "def f(a):\n    return zip(a, a)\n", "def f(a):\n    b = a.items()\n",
+    "def f(a):\n    b = set(a)\n", "def f(a):\n    for b in set(a):\n        pass\n", "def f(a):\n    return a in {1, 2, 3}\n",
+)
+
+# These are seen only where the classes of all files are looked at together.
+BAD_CLASSES = (
+    "class A:\n    def b(self):\n        self.b = 1\n", "class A:\n    def real(self):\n        return 1\n",
+    "class A:\n    def __init__(self):\n        self.items = 1\n", "def f(a):\n    return a.sort()\n",
+    "def f(a):\n    return a.append\n", "class A:\n    def b(self):\n        pass\n\n    def b(self):\n        pass\n",
 )
 
 
@@ -265,6 +397,9 @@ class Form(unittest.TestCase):
             with self.subTest(path=path.name):
                 self.assertEqual(faults(path.read_text(encoding="utf-8")), [])
 
+    def test_the_methods_and_values_of_all_files_keep_to_the_rules(self):
+        self.assertEqual(faults_of_methods([ast.parse(path.read_text(encoding="utf-8")) for path in files()]), [])
+
     def test_no_two_files_draw_from_one_another(self):
         drawn = {f"meterhouse.{path.stem}": drawn_from(path.read_text(encoding="utf-8")) for path in files()}
         while drawn:
@@ -276,6 +411,9 @@ class Form(unittest.TestCase):
         for text in BAD:
             with self.subTest(text=text):
                 self.assertNotEqual(faults(text), [])
+        for text in BAD_CLASSES:
+            with self.subTest(text=text):
+                self.assertNotEqual(faults_of_methods([ast.parse(text)]), [])
 
 
 if __name__ == "__main__":
