@@ -73,6 +73,11 @@ class RightPrograms(unittest.TestCase):
                 for number in (0, 1, 5, -1):
                     self.check([(word, number)], False)
 
+    def test_tuples_of_no_text_or_of_too_much(self):
+        self.check([()], False)
+        self.check([("push", 1, 2)], False)
+        self.check([("add", 1, 2)], False)
+
     def test_a_word_that_is_none(self):
         for word in ("", " ", "Push", "PUSH", "pushes", "pus", "push ", " push", "push 1", "adds", "sub", "0", ";", "deed"):
             self.check([(word,)], False)
